@@ -1,6 +1,7 @@
 """Holds the package's files against the small part of Python that they keep to."""
 
 import ast
+import builtins
 import pathlib
 import re
 import unittest
@@ -37,6 +38,11 @@ UNUSED = set("""
     locals methodcaller os quit setattr super vars sys chr print
 """.split())
 
+# Where something that is walked at once may stand as the first thing, and the keywords that Python's own may have.
+WALKERS = set("list tuple dict sorted sum any all enumerate zip min max".split())
+KEYWORDS = {"sorted": {"key", "reverse"}, "min": {"key", "default"}, "max": {"key", "default"}, "sum": {"start"},
+            "enumerate": {"start"}, "zip": {"strict"}}
+
 
 def files():
     return sorted(PACKAGE.glob("**/*.py"))
@@ -72,6 +78,43 @@ def stored_values(tree):
 def methods(tree):
     return {node.name for kind in tree.body if isinstance(kind, ast.ClassDef)
             for node in kind.body if isinstance(node, ast.FunctionDef)}
+
+
+def parents(tree):
+    """For each node the one around it."""
+    return {child: node for node in ast.walk(tree) for child in ast.iter_child_nodes(node)}
+
+
+def top_names(tree):
+    """All names that a file binds at its top, each as often as it does."""
+    names = []
+    for node in tree.body:
+        if isinstance(node, (ast.FunctionDef, ast.ClassDef)):
+            names.append(node.name)
+        elif isinstance(node, ast.ImportFrom):
+            names.extend(alias.asname or alias.name for alias in node.names)
+        elif isinstance(node, ast.Assign):
+            names.append(node.targets[0].id)
+    return names
+
+
+def local_names(tree):
+    """All names of parameters and locals."""
+    tops = [target for node in tree.body if isinstance(node, ast.Assign) for target in node.targets]
+    stored = [node for node in ast.walk(tree) if isinstance(node, ast.Name) and isinstance(node.ctx, ast.Store)]
+    return ({node.arg for node in ast.walk(tree) if isinstance(node, ast.arg)}
+            | {node.id for node in stored if node not in tops})
+
+
+def callee(node):
+    """The name that a call calls, or the name of its method; None of what is no call."""
+    if not isinstance(node, ast.Call):
+        return None
+    return node.func.id if isinstance(node.func, ast.Name) else node.func.attr
+
+
+def drawn_from(tree):
+    return {node.module for node in tree.body if isinstance(node, ast.ImportFrom)}
 
 
 class Language(unittest.TestCase):
@@ -155,6 +198,95 @@ class Language(unittest.TestCase):
             self.assertEqual(called - own - OWN_METHODS, set(), name)
             attributes = {node.attr for node in ast.walk(tree) if isinstance(node, ast.Attribute)}
             self.assertEqual(attributes & UNUSED, set(), name)
+
+    def test_the_top_of_a_file(self):
+        for name, tree in parsed():
+            self.assertIsNotNone(ast.get_docstring(tree), name)
+            for node in tree.body[1:]:
+                self.assertIsInstance(node, (ast.ImportFrom, ast.FunctionDef, ast.ClassDef, ast.Assign), name)
+                if isinstance(node, ast.Assign):
+                    ast.literal_eval(node.value)
+            tops = top_names(tree)
+            self.assertEqual(len(tops), len(set(tops)), name)
+
+    def test_classes_are_plain(self):
+        for name, tree in parsed():
+            for node in ast.walk(tree):
+                if isinstance(node, ast.ClassDef):
+                    self.assertIn(node, tree.body, name)
+                    self.assertLessEqual(len(node.bases), 1, name)
+                    self.assertEqual((node.keywords, node.decorator_list), ([], []), name)
+                    body = node.body[1:] if ast.get_docstring(node) else node.body
+                    self.assertEqual([part for part in body if not isinstance(part, ast.FunctionDef)], [], name)
+                    named = [part.name for part in body]
+                    self.assertEqual(len(named), len(set(named)), name)
+
+    def test_locals_bear_no_name_of_a_class_an_import_or_python_s_own(self):
+        for name, tree in parsed():
+            taken = {alias.asname or alias.name for node in tree.body if isinstance(node, ast.ImportFrom)
+                     for alias in node.names}
+            taken = taken | {node.name for node in tree.body if isinstance(node, ast.ClassDef)} | set(dir(builtins))
+            self.assertEqual(local_names(tree) & taken, set(), name)
+
+    def test_no_two_files_draw_from_one_another(self):
+        left = {"unfoldnet." + name.removesuffix(".py"): drawn_from(tree) for name, tree in parsed()}
+        while left:
+            free = [name for name in left if not left[name] & set(left)]
+            self.assertNotEqual(free, [], sorted(left))
+            left = {name: left[name] for name in left if name not in free}
+
+    def test_what_is_walked_at_once_is_not_kept(self):
+        for name, tree in parsed():
+            around = parents(tree)
+            for node in ast.walk(tree):
+                if callee(node) not in ("zip", "enumerate", "reversed", "range", "items", "keys", "values"):
+                    continue
+                outer = around[node]
+                walked = isinstance(outer, (ast.For, ast.comprehension)) and outer.iter == node
+                handed = callee(outer) in WALKERS | {"join"} and outer.args[0] == node
+                self.assertTrue(walked or handed, (name, node.lineno))
+
+    def test_sets_are_not_kept(self):
+        for name, tree in parsed():
+            around = parents(tree)
+            for node in ast.walk(tree):
+                self.assertNotIsInstance(node, ast.Set, name)
+                if callee(node) in ("set", "frozenset"):
+                    outer = around[node]
+                    while isinstance(outer, ast.BinOp):
+                        outer = around[outer]
+                    good = isinstance(outer, ast.Compare) or callee(outer) in ("sorted", "len") and not outer.keywords
+                    self.assertTrue(good, (name, node.lineno))
+
+    def test_keywords_of_python_s_own(self):
+        for name, tree in parsed():
+            for node in ast.walk(tree):
+                if isinstance(node, ast.Call) and callee(node) in OWN_NAMES | OWN_METHODS:
+                    words = {keyword.arg for keyword in node.keywords}
+                    self.assertLessEqual(words, KEYWORDS.get(callee(node), set()), (name, node.lineno))
+
+    def test_python_s_own_are_called_and_not_kept(self):
+        for name, tree in parsed():
+            around = parents(tree)
+            errors = {word for word in OWN_NAMES if word[0].isupper()}
+            for node in ast.walk(tree):
+                if isinstance(node, ast.Name) and node.id in OWN_NAMES - errors:
+                    outer = around[node]
+                    kind = callee(outer) == "isinstance" or isinstance(outer, (ast.Tuple, ast.keyword))
+                    self.assertTrue(kind or isinstance(outer, ast.Call) and outer.func == node, (name, node.lineno))
+
+    def test_no_error_of_python_s_own_is_taken(self):
+        for name, tree in parsed():
+            for node in ast.walk(tree):
+                if isinstance(node, ast.ExceptHandler):
+                    self.assertIsInstance(node.type, ast.Name, (name, node.lineno))
+                    self.assertIn(node.type.id, bound_names(tree) | {"KeyError", "StopIteration"}, (name, node.lineno))
+
+    def test_no_power_with_an_unwritten_exponent(self):
+        for name, tree in parsed():
+            for node in ast.walk(tree):
+                if isinstance(node, ast.BinOp) and isinstance(node.op, ast.Pow):
+                    self.assertIsInstance(node.right, ast.Constant, (name, node.lineno))
 
 
 if __name__ == "__main__":
