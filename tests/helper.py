@@ -1,8 +1,11 @@
 """Second ways to hold the program against: play by counting beads, webs by takers and givers; and many small nets."""
 
-from itertools import combinations, product
+from itertools import combinations, islice, product, zip_longest
 
+from unfoldnet.grown import Grown
 from unfoldnet.nets import Net
+from unfoldnet.relations import comings
+from unfoldnet.weaves import woven
 from unfoldnet.webs import Web
 
 NAMES = ("walk", "run", "hop")
@@ -251,3 +254,187 @@ def web_again(web):
 def fork():
     """The web of FORK behind its steps."""
     return web_of(FORK, FORK_STEPS)
+
+
+def parts_of(net):
+    """The lists of which a net like this one is made."""
+    return [(move, net.takes(move), net.gives(move)) for move in net.moves()], list(net.start())
+
+
+def ring_net(seed, rings, size, moves):
+    """A net of some rings of places, in each of them a bead: so it does not crowd. Its moves are cast by the seed."""
+    def cast(sides):
+        nonlocal seed
+        seed = (seed * 6364136223846793005 + 1442695040888963407) % 2 ** 64
+        return (seed >> 33) % sides
+
+    made = []
+    for letter in "bcdefghijklm"[:moves]:
+        some = sorted({cast(rings) for ring in range(1 + cast(3))})
+        takes = ["pqrs"[ring] + "abc"[cast(size)] for ring in some]
+        # A bead goes for good now and then.
+        gives = ["pqrs"[ring] + "abc"[cast(size)] for ring in some if cast(30)]
+        made.append((("", "a", "x")[cast(3)] + letter, takes, gives))
+    return Net(made, ["pqrs"[ring] + "a" for ring in range(rings)])
+
+
+def ring_nets(count):
+    """Nets of two to four rings, of two or three places each, with eight to twelve moves."""
+    return [ring_net(seed, 2 + seed % 3, 2 + seed % 2, 8 + seed % 5) for seed in range(count)]
+
+
+def free_nets(places, moves, step):
+    """Those of the small nets that do not crowd."""
+    return [Net(made, start) for made, start in small_nets(places, moves, step)
+            if counted_crowding(made, start, places) is None]
+
+
+def counted_states(net):
+    """The set of all states that a net can come to."""
+    moves, start = parts_of(net)
+    found, todo = {tuple(start)}, [tuple(start)]
+    while todo:
+        state = todo.pop()
+        for outcome in [counted(moves, state, move[0]) for move in moves]:
+            if isinstance(outcome, tuple) and outcome not in found:
+                found.add(outcome)
+                todo.append(outcome)
+    return found
+
+
+def rows_to_play(net, longest):
+    """All rows of at most so many moves that can be played, the shorter ones first."""
+    moves, start = parts_of(net)
+    rows, todo = [], [([], tuple(start))]
+    while todo:
+        rows.extend(row for row, state in todo)
+        steps = [(row + [move[0]], counted(moves, state, move[0])) for row, state in todo for move in moves]
+        todo = [(row, outcome) for row, outcome in steps if isinstance(outcome, tuple) and len(row) <= longest]
+    return rows
+
+
+def counted_own(web, one):
+    """The own troop of an occurrence."""
+    return sorted(counted_causes(web, one) | {one})
+
+
+def all_troops(web):
+    """All troops of a web: each comes of a lesser one by an occurrence with a greater number than any in it."""
+    numbers = range(len(web.occurrences()))
+    ahead = [counted_causes(web, one) for one in numbers]
+    clashing = [{other for other in numbers if counted_clashes(web, one, other)} for one in numbers]
+    troops = [[]]
+    for troop in troops:
+        for one in numbers[troop[-1] + 1 if troop else 0:]:
+            if ahead[one] <= set(troop) and not clashing[one] & set(troop):
+                troops.append(troop + [one])
+    return troops
+
+
+def orders_of(web, troop):
+    """All orders of a troop in which each occurrence stands behind its causes."""
+    if not troop:
+        yield []
+    for one in troop:
+        if not any(one in counted_causes(web, other) for other in troop):
+            for order in orders_of(web, [other for other in troop if other != one]):
+                yield order + [one]
+
+
+def some_orders(web, troop, most):
+    """At most so many of the orders of a troop, each as a row of moves."""
+    return [[web.occurrences()[one][0] for one in order] for order in islice(orders_of(web, troop), most)]
+
+
+def counted_cut(web, troop):
+    """The rising list of the spots that are there and not taken."""
+    spots, occurrences = told_by(web)
+    taken = [spot for one in troop for spot in occurrences[one][1]]
+    return [number for number, (place, giver) in enumerate(spots)
+            if (giver is None or giver in troop) and number not in taken]
+
+
+def counted_state(web, troop):
+    """The places of a cut, as a state."""
+    return tuple(sorted(web.spots()[spot][0] for spot in counted_cut(web, troop)))
+
+
+def counted_going_on(web, troop):
+    """The rising list of those that are not in a troop and take spots of its cut alone."""
+    left = counted_cut(web, troop)
+    return [number for number, (move, spots) in enumerate(web.occurrences())
+            if number not in troop and all(spot in left for spot in spots)]
+
+
+def counted_levels(web, troop):
+    """The levels of a troop, each as the greatest of its causes' levels and one more."""
+    level = {}
+    for one in troop:
+        level[one] = max((level[cause] for cause in counted_causes(web, one)), default=0) + 1
+    return [[one for one in troop if level[one] == number] for number in range(1, max(level.values(), default=0) + 1)]
+
+
+def names_of(web, some):
+    """The sorted list of the names of the moves of some occurrences."""
+    return sorted(web.occurrences()[one][0] for one in some)
+
+
+def counted_less(web, one, other):
+    """Whether the first of two troops is less, by the three ways in their order."""
+    if len(one) != len(other):
+        return len(one) < len(other)
+    if names_of(web, one) != names_of(web, other):
+        return names_of(web, one) < names_of(web, other)
+    for some, others in zip_longest(counted_levels(web, one), counted_levels(web, other), fillvalue=[]):
+        first, second = names_of(web, some), names_of(web, others)
+        if first != second:
+            return len(first) < len(second) or len(first) == len(second) and first < second
+    return False
+
+
+def least_coming(web, partners):
+    """Of all that may come and take no spot that a stop gave, the one with the least own troop; None where none may."""
+    spots = web.spots()
+    free = [coming for coming in comings(web) if not any(spots[spot][1] in partners for spot in coming[1])]
+    trial = web_again(web)
+    troops = [counted_own(trial, trial.come(move, list(taken))) for move, taken in free]
+    least = [coming for coming, troop in zip(free, troops)
+             if all(counted_less(trial, troop, other) for other in troops if other != troop)]
+    assert len(least) == (1 if free else 0), (free, least)
+    return least[0] if free else None
+
+
+def counted_grown(net):
+    """The web that grows by the document's words, step by step, and the dict of its stops with their partners."""
+    web, partners, states = Web(net), {}, []
+    coming = least_coming(web, partners)
+    while coming is not None:
+        number = web.come(coming[0], list(coming[1]))
+        state = counted_state(web, counted_own(web, number))
+        if state == net.start():
+            partners[number] = None
+        elif state in states:
+            partners[number] = states.index(state)
+        states.append(state)
+        coming = least_coming(web, partners)
+    return web, partners
+
+
+def counted_weave(net, row):
+    """The spots and the occurrences of a row that can be played, each bead's spot being kept by its place."""
+    spots = [(place, None) for place in net.start()]
+    there = {place: number for number, (place, giver) in enumerate(spots)}
+    occurrences = []
+    for number, move in enumerate(row):
+        occurrences.append((move, tuple(sorted(there.pop(place) for place in net.takes(move)))))
+        for place in net.gives(move):
+            there[place] = len(spots)
+            spots.append((place, number))
+    return spots, occurrences
+
+
+def grown_and_woven_webs(most):
+    """Webs that were not grown by hand: grown webs of at most so many occurrences, and woven rows."""
+    nets = [net_of(text) for text in RICH_NETS] + ring_nets(30)
+    grown = [web for web in [Grown(net) for net in nets] if 0 < len(web.occurrences()) <= most]
+    return grown + [woven(net, rows_to_play(net, 5)[-1]) for net in nets]

@@ -3,7 +3,8 @@ import unittest
 from itertools import combinations
 
 from helper import (FORK, counted_beside, counted_causes, counted_clashes, counted_come, counted_comings,
-                    counted_words, fork, net_of, refusal_of, rich_webs, small_webs, told_by, web_again, web_of)
+                    counted_words, fork, grown_and_woven_webs, net_of, refusal_of, rich_webs, small_webs, told_by,
+                    web_again, web_of)
 
 from unfoldnet.relations import causes, clash_at, comings, relation, spots_beside
 from unfoldnet.webs import Web
@@ -11,7 +12,7 @@ from unfoldnet.webs import Web
 
 def many_webs():
     return (list(rich_webs(11)) + list(small_webs("ab", 2, 3, 6)) + list(small_webs("abc", 2, 61, 7))
-            + list(small_webs("abc", 3, 1993, 7)))
+            + list(small_webs("abc", 3, 1993, 7)) + grown_and_woven_webs(14))
 
 
 class Causes(unittest.TestCase):

@@ -1,8 +1,8 @@
 import unittest
 from itertools import combinations
 
-from helper import (counted_causes, counted_clashes, fork, is_troop, net_of, refusal_of, rich_webs, small_webs,
-                    told_by, web_by_hand)
+from helper import (counted_causes, counted_clashes, fork, grown_and_woven_webs, is_troop, net_of, refusal_of,
+                    rich_webs, small_webs, told_by, web_by_hand)
 
 from unfoldnet.errors import Clash
 from unfoldnet.troops import flaw, own, together
@@ -10,7 +10,8 @@ from unfoldnet.webs import Web
 
 
 def many_webs():
-    return list(rich_webs(7)) + list(small_webs("ab", 2, 3, 5)) + list(small_webs("abc", 3, 1993, 6))
+    return (list(rich_webs(7)) + list(small_webs("ab", 2, 3, 5)) + list(small_webs("abc", 3, 1993, 6))
+            + grown_and_woven_webs(8))
 
 
 def some_of_all(web):

@@ -47,10 +47,10 @@ def spots_beside(web, one, other):
     return has(web.beside_bits[one], other)
 
 
-def fitting_spots(web, move):
-    """The rising tuples of spots, one of each place from which a move takes, each two side by side."""
-    # With each choice of spots goes what stands beside all of them; at first that is every spot.
-    choices = [((), bit(len(web.spots())) - 1)]
+def fitting_spots(web, move, among):
+    """The rising tuples of spots among those told, one of each place the move takes from, each two side by side."""
+    # With each choice of spots goes what stands beside all of them.
+    choices = [((), among)]
     for place in web.net().takes(move):
         longer = []
         for chosen, beside in choices:
@@ -62,9 +62,10 @@ def fitting_spots(web, move):
 
 def comings(web):
     """The rising list of the tuples (move, spots) of all occurrences that may come."""
+    every_spot = bit(len(web.spots())) - 1
     found = []
     for move in web.net().moves():
-        for spots in fitting_spots(web, move):
+        for spots in fitting_spots(web, move, every_spot):
             if (move, spots) not in web.numbers_there:
                 found.append((move, spots))
     return sorted(found)

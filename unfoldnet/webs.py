@@ -9,8 +9,8 @@ class Web:
     """A web of a net.
 
     How two that are there stand to one another never changes by what comes later. So it is worked out once, as they
-    come, and kept as bits: with each occurrence those of its own troop, with each spot those of the spots side by
-    side with it and of the occurrences that take it, with each place those of its spots.
+    come, and kept as bits: with each occurrence those of its own troop and of the spots that it gave, with each spot
+    those of the spots side by side with it and of the occurrences that take it, with each place those of its spots.
     """
 
     def __init__(self, net):
@@ -22,6 +22,7 @@ class Web:
         self.occurrence_tuples = []
         self.numbers_there = {}
         self.own_bits = []
+        self.given_bits = []
         self.beside_bits = []
         self.taker_bits = []
         self.place_bits = dict([(place, 0) for place in net.places()])
@@ -74,22 +75,29 @@ class Web:
                 if not has(self.beside_bits[one], other):
                     raise Apart(one, other)
 
+    def bits_ahead(self, spots):
+        """The bits of the occurrences that gave these spots, and of all their causes."""
+        ahead = 0
+        for spot in spots:
+            giver = self.spot_tuples[spot][1]
+            if giver is not None:
+                ahead = ahead | self.own_bits[giver]
+        return ahead
+
     def add_occurrence(self, occurrence):
         """Adds an occurrence that may come, with the spots that it gives; tells its number."""
         number = len(self.occurrence_tuples)
-        own = bit(number)
+        spots_ahead = bit(len(self.spot_tuples))
         # A new spot stands beside just those that stand beside all spots that its giver takes.
-        beside = bit(len(self.spot_tuples)) - 1
+        beside = spots_ahead - 1
         for spot in occurrence[1]:
-            giver = self.spot_tuples[spot][1]
-            if giver is not None:
-                own = own | self.own_bits[giver]
             beside = beside & self.beside_bits[spot]
             self.taker_bits[spot] = self.taker_bits[spot] | bit(number)
         self.occurrence_tuples.append(occurrence)
         self.numbers_there[occurrence] = number
-        self.own_bits.append(own)
+        self.own_bits.append(bit(number) | self.bits_ahead(occurrence[1]))
         self.add_spots(self.base_net.gives(occurrence[0]), number, beside)
+        self.given_bits.append(bit(len(self.spot_tuples)) - spots_ahead)
         return number
 
     def add_spots(self, places, giver, beside):
