@@ -1,5 +1,6 @@
 """Second ways to hold the program against: play by counting beads, webs by takers and givers; and many small nets."""
 
+from functools import cache
 from itertools import combinations, islice, product, zip_longest
 
 from unfoldnet.grown import Grown
@@ -20,9 +21,36 @@ RICH_NETS = (
     "a b c d; all: a b c d > e f g h; turn: c d > d c; drop: d >; split: e > a; again: f g h > b c d; flip: a b > b a",
 )
 
+# Nets of six rings of two places each, with many stops in their grown webs.
+LARGE_NETS = (
+    "pa pb pc pd pe pf; ma: pk pb > pe ph; mb: pa pf > pg pl; mc: pf pk > pf pk; md: pe pl pg > pk pf pg; "
+    "me: ph pd > pb pj; mf: ph pj pc > pb pd pi; mg: pe > pk; mh: pi pk > pc pe; mi: pj pg > pd pa; "
+    "mj: pk pa > pk pa; mk: pj pl > pj pl; ml: pb pa pf > ph pg pf",
+    "a b c d e f; ma: e j > e d; mb: i > c; mc: a > g; md: k i > k c; me: j g > j g; mf: f > l; mg: b e > h e; "
+    "mh: l j > l j; mi: d c > d c; mj: d c g > j i a; mk: d > j; ml: k > e",
+)
+
 # 0 left and 1 lean clash, 2 mid is beside both; 3 join is behind 0 and 2, 4 jump behind 1 and 2; 5 again behind 3.
 FORK = "a b; left: a > c; lean: a > d; mid: b > e; join: c e > a; jump: d e > f; again: a > g"
 FORK_STEPS = [("left", [0]), ("lean", [0]), ("mid", [1]), ("join", [2, 4]), ("jump", [3, 4]), ("again", [5])]
+
+# y stands behind or ahead of x, and of z; x and z are side by side.
+MIDDLE = "a b c p q; x: a p > a p; y: b p q > b p q; z: c q > c q"
+
+# Its rows go on for ever, with joins, forks, clashes and side by side.
+ROUND = "a; fork: a > b c; left: b > d; lean: b > d; right: c > e; join: d e > a"
+
+# Nets in which two troops without stops have one state, and only behind one of them the web goes on without a stop:
+# the lesser by the names of its moves, or by its levels.
+TWO_WAYS_NETS = (
+    "a c; on: c > d; go: a > b; too: b c > b d; join: b d > e f",
+    "a c; and: b c > b d; end: b d > b; on: c > d; start: a > b",
+    "p q; fork: p > r; go: r q > r s; on: q > s; out: r s > t u; over: t > v; under: u >",
+    "pa qa ra sa; ah: qa ra > qb ra; ai: rb sa > ra sb; f: pb qb > pb; g: pb ra > pa rb; xb: pa > pb",
+)
+
+# Nothing at all, no moves, no beads at the start, a bead too few, one bead that goes, one that stays.
+BARE_NETS = ("", "b a", "; go: a > b", "a; go: a b > c", "a; end: a >", "a; stay: a > a")
 
 
 def some_of(places, least):
@@ -289,17 +317,46 @@ def free_nets(places, moves, step):
             if counted_crowding(made, start, places) is None]
 
 
-def counted_states(net):
-    """The set of all states that a net can come to."""
+def counted_steps(net):
+    """For each state that a net can come to a dict: the moves that may be done there, with the states behind them."""
     moves, start = parts_of(net)
-    found, todo = {tuple(start)}, [tuple(start)]
+    steps, todo = {}, [tuple(start)]
     while todo:
         state = todo.pop()
-        for outcome in [counted(moves, state, move[0]) for move in moves]:
-            if isinstance(outcome, tuple) and outcome not in found:
-                found.add(outcome)
-                todo.append(outcome)
-    return found
+        if state not in steps:
+            outcomes = {move[0]: counted(moves, state, move[0]) for move in moves}
+            steps[state] = {move: behind for move, behind in outcomes.items() if isinstance(behind, tuple)}
+            todo.extend(steps[state].values())
+    return steps
+
+
+def counted_states(net):
+    """The set of all states that a net can come to."""
+    return set(counted_steps(net))
+
+
+def counted_reach(steps, state):
+    """For each state to which rows lead from a state, how many moves the shortest of these has."""
+    reach, layer = {state: 0}, [state]
+    while layer:
+        layer = [behind for one in layer for behind in steps[one].values() if behind not in reach]
+        reach.update({behind: max(reach.values()) + 1 for behind in layer})
+    return reach
+
+
+@cache
+def nets_of_many_sorts():
+    """Nets that do not crowd: bare ones, rich and large ones, small ones, and some of rings."""
+    texts = BARE_NETS + RICH_NETS + LARGE_NETS + TWO_WAYS_NETS + (FORK, MIDDLE, ROUND)
+    return ([net_of(text) for text in texts] + free_nets("ab", 2, 3) + free_nets("abc", 2, 97)
+            + free_nets("abc", 3, 2999) + ring_nets(70))
+
+
+def turned(net):
+    """Nets like this one, made of lists in other orders."""
+    moves, start = parts_of(net)
+    others = [(name, takes[::-1], gives[1:] + gives[:1]) for name, takes, gives in moves]
+    return [Net(others[::-1], start[::-1]), Net(others[1:] + others[:1], start[1:] + start[:1])]
 
 
 def rows_to_play(net, longest):
@@ -433,8 +490,100 @@ def counted_weave(net, row):
     return spots, occurrences
 
 
+def counted_exchanges(net, row):
+    """All (at, other): other comes of a row by exchanging the neighbours at and at + 1, which are side by side."""
+    spots, occurrences = counted_weave(net, row)
+    return [(at, row[:at] + [row[at + 1], row[at]] + row[at + 2:]) for at in range(len(row) - 1)
+            if not any(spots[spot][1] == at for spot in occurrences[at + 1][1])]
+
+
+def counted_alike(net, row):
+    """For each row, a tuple, that comes of a row by exchanges, by how few of them it does."""
+    found, todo = {tuple(row): 0}, [list(row)]
+    for one in todo:
+        for at, other in counted_exchanges(net, one):
+            if tuple(other) not in found:
+                found[tuple(other)] = found[tuple(one)] + 1
+                todo.append(other)
+    return found
+
+
 def grown_and_woven_webs(most):
     """Webs that were not grown by hand: grown webs of at most so many occurrences, and woven rows."""
     nets = [net_of(text) for text in RICH_NETS] + ring_nets(30)
     grown = [web for web in [Grown(net) for net in nets] if 0 < len(web.occurrences()) <= most]
     return grown + [woven(net, rows_to_play(net, 5)[-1]) for net in nets]
+
+
+def last_state(case, net, row, fewest):
+    """The state to which a row leads that must have so many moves; None where None must be told, and is."""
+    place = (parts_of(net), row, fewest)
+    if fewest is None:
+        case.assertIsNone(row, place)
+        return None
+    case.assertIs(type(row), list, place)
+    case.assertEqual(len(row), fewest, place)
+    states = counted_row(*parts_of(net), row)
+    case.assertIsInstance(states, list, place)
+    return states[-1]
+
+
+class RowsRefused:
+    """Tests of what is woven of rows; `asks(net, row)` tells all calls that must be refused where the row is."""
+
+    def refused(self, net, row, refusal):
+        kept = list(row)
+        for ask in self.asks(net, row):
+            self.assertEqual(outcome_of(ask), refusal, (parts_of(net), row))
+        self.assertEqual(row, kept)
+
+    def test_no_move_and_held(self):
+        net = net_of(FORK)
+        self.refused(net, ["nowhere"], ("NoMove", 0))
+        self.refused(net, ["a"], ("NoMove", 0))
+        self.refused(net, [""], ("NoMove", 0))
+        self.refused(net, ["left", "mid", "JOIN"], ("NoMove", 2))
+        self.refused(net, ["join"], ("Held", 0))
+        self.refused(net, ["left", "lean"], ("Held", 1))
+        self.refused(net, ["left", "mid", "join", "mid"], ("Held", 3))
+        self.refused(Net([], []), ["go"], ("NoMove", 0))
+
+    def test_the_first_refusal_is_the_row_s(self):
+        net = net_of(FORK)
+        self.refused(net, ["left", "lean", "nowhere"], ("Held", 1))
+        self.refused(net, ["left", "nowhere", "lean"], ("NoMove", 1))
+
+    def test_all_short_rows_as_counted(self):
+        kinds = set()
+        for net in [net_of(ROUND), net_of(MIDDLE), net_of(FORK)] + free_nets("ab", 2, 37):
+            for size in range(4):
+                for row in product(net.moves() + ["no"], repeat=size):
+                    outcome = counted_row(*parts_of(net), list(row))
+                    if isinstance(outcome, tuple):
+                        self.refused(net, list(row), outcome)
+                        kinds.add(outcome[0])
+                    else:
+                        self.assertEqual([refusal_of(ask) for ask in self.asks(net, list(row)) if refusal_of(ask)], [])
+        self.assertEqual(kinds, {"NoMove", "Held"})
+
+    def test_a_net_that_crowds(self):
+        for text, row in (("a b; go: a > b", ["go"]), ("a c; go: a > b; on: b > c", ["go", "on"])):
+            for ask in self.asks(net_of(text), []):
+                self.assertEqual(refusal_of(ask), ("Crowded", {"row": row}))
+
+    def test_crowded_goes_ahead_of_the_others(self):
+        net = net_of("a b c; go: a > b; on: c > d; held: d > e")
+        for row in ([], ["on"], ["nowhere"], ["held"], ["on", "nowhere"], ["go"], ["on", "go"]):
+            for ask in self.asks(net, row):
+                self.assertEqual(refusal_of(ask), ("Crowded", {"row": ["go"]}))
+
+    def test_small_nets_that_crowd(self):
+        for made, start in small_nets("abc", 2, 997):
+            size = counted_crowding(made, start, "abc")
+            for ask in self.asks(Net(made, start), ["no"]):
+                refusal = refusal_of(ask)
+                if size is None:
+                    self.assertEqual(refusal, ("NoMove", {"at": 0}))
+                else:
+                    self.assertEqual((refusal[0], len(refusal[1]["row"])), ("Crowded", size))
+                    self.assertEqual(counted_row(made, start, refusal[1]["row"]), ("Full", size - 1))

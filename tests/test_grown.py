@@ -1,9 +1,9 @@
 import copy
 import unittest
 
-from helper import (RICH_NETS, all_troops, counted, counted_clashes, counted_comings, counted_crowding, counted_grown,
-                    counted_less, counted_own, counted_row, counted_state, counted_states, free_nets, net_of,
-                    parts_of, refusal_of, ring_nets, small_nets, told_by)
+from helper import (LARGE_NETS, RICH_NETS, all_troops, counted, counted_clashes, counted_comings, counted_crowding,
+                    counted_grown, counted_less, counted_own, counted_row, counted_state, counted_states, free_nets,
+                    net_of, parts_of, refusal_of, ring_nets, small_nets, told_by)
 
 from unfoldnet.cuts import going_on, state_of
 from unfoldnet.errors import Crowded
@@ -61,15 +61,6 @@ TOLD = [
      [("on", (1,)), ("one", (0,)), ("two", (0,)), ("meet", (2, 3))], {2: 1}),
 ]
 
-# Nets of six rings of two places each, with many stops in their grown webs.
-LARGE = (
-    "pa pb pc pd pe pf; ma: pk pb > pe ph; mb: pa pf > pg pl; mc: pf pk > pf pk; md: pe pl pg > pk pf pg; "
-    "me: ph pd > pb pj; mf: ph pj pc > pb pd pi; mg: pe > pk; mh: pi pk > pc pe; mi: pj pg > pd pa; "
-    "mj: pk pa > pk pa; mk: pj pl > pj pl; ml: pb pa pf > ph pg pf",
-    "a b c d e f; ma: e j > e d; mb: i > c; mc: a > g; md: k i > k c; me: j g > j g; mf: f > l; mg: b e > h e; "
-    "mh: l j > l j; mi: d c > d c; mj: d c g > j i a; mk: d > j; ml: k > e",
-)
-
 
 def partners_of(web):
     """The stops of a grown web with their partners."""
@@ -125,7 +116,7 @@ class Told(unittest.TestCase):
         self.assertEqual(sorts, {int, type(None)})
 
     def test_large_nets_step_by_step(self):
-        for text in LARGE:
+        for text in LARGE_NETS:
             net = net_of(text)
             web = Grown(net)
             other, partners = counted_grown(net)
@@ -206,12 +197,12 @@ class WhatHolds(unittest.TestCase):
                     self.assertNotIn(partner, stops)
 
     def test_fewer_occurrences_than_states(self):
-        for net in many_nets() + [net_of(text) for text in LARGE]:
+        for net in many_nets() + [net_of(text) for text in LARGE_NETS]:
             web = Grown(net)
             self.assertLess(len(web.occurrences()) - len(web.stops()), len(counted_states(net)), parts_of(net))
 
     def test_nothing_takes_a_spot_that_a_stop_gave(self):
-        for net in many_nets() + [net_of(text) for text in LARGE]:
+        for net in many_nets() + [net_of(text) for text in LARGE_NETS]:
             web = Grown(net)
             stops = set(web.stops())
             taken = [spot for move, spots in web.occurrences() for spot in spots]

@@ -1,46 +1,19 @@
 import copy
 import unittest
-from itertools import product
 
-from helper import (FORK, RICH_NETS, counted_causes, counted_crowding, counted_levels, counted_row, counted_weave,
-                    free_nets, names_of, net_of, outcome_of, parts_of, refusal_of, ring_nets, rows_to_play,
-                    small_nets, told_by)
+from helper import (FORK, MIDDLE, RICH_NETS, ROUND, RowsRefused, counted_alike, counted_causes, counted_exchanges,
+                    counted_levels, counted_row, counted_weave, free_nets, names_of, net_of, parts_of, ring_nets,
+                    rows_to_play, told_by)
 
 from unfoldnet.cuts import followed, state_of
-from unfoldnet.errors import Crowded
-from unfoldnet.nets import Net
 from unfoldnet.troops import flaw
 from unfoldnet.weaves import row_levels, woven
 from unfoldnet.webs import Web
-
-# y stands behind or ahead of x, and of z; x and z are side by side.
-MIDDLE = "a b c p q; x: a p > a p; y: b p q > b p q; z: c q > c q"
-
-# Its rows go on for ever, with joins, forks, clashes and side by side.
-ROUND = "a; fork: a > b c; left: b > d; lean: b > d; right: c > e; join: d e > a"
 
 
 def some_nets():
     return ([net_of(text) for text in RICH_NETS + (FORK, MIDDLE, ROUND)] + free_nets("ab", 2, 7)
             + free_nets("abc", 3, 2999) + ring_nets(20))
-
-
-def exchanged(net, row):
-    """All rows that come of a row by exchanging two neighbours that are side by side."""
-    spots, occurrences = counted_weave(net, row)
-    return [row[:at] + [row[at + 1], row[at]] + row[at + 2:] for at in range(len(row) - 1)
-            if not any(spots[spot][1] == at for spot in occurrences[at + 1][1])]
-
-
-def alike(net, row):
-    """The set of all rows that come of a row by such exchanges, again and again."""
-    found, todo = {tuple(row)}, [row]
-    while todo:
-        for other in exchanged(net, todo.pop()):
-            if tuple(other) not in found:
-                found.add(tuple(other))
-                todo.append(other)
-    return found
 
 
 class Woven(unittest.TestCase):
@@ -144,7 +117,7 @@ class Alike(unittest.TestCase):
         for net in some_nets():
             moves, start = parts_of(net)
             for row in rows_to_play(net, 5)[:120]:
-                for other in exchanged(net, row):
+                for at, other in counted_exchanges(net, row):
                     states = counted_row(moves, start, other)
                     self.assertIsInstance(states, list, (row, other))
                     self.assertEqual(states[-1], counted_row(moves, start, row)[-1])
@@ -154,8 +127,8 @@ class Alike(unittest.TestCase):
 
     def test_neighbours_that_are_not_side_by_side(self):
         net = net_of(MIDDLE)
-        self.assertEqual(exchanged(net, ["x", "y"]), [])
-        self.assertEqual(exchanged(net, ["x", "z"]), [["z", "x"]])
+        self.assertEqual(counted_exchanges(net, ["x", "y"]), [])
+        self.assertEqual(counted_exchanges(net, ["x", "z"]), [(0, ["z", "x"])])
         self.assertNotEqual(row_levels(net, ["x", "y"]), row_levels(net, ["y", "x"]))
         self.assertEqual(row_levels(net, ["x", "z"]), row_levels(net, ["z", "x"]))
 
@@ -167,7 +140,7 @@ class Alike(unittest.TestCase):
             for row in rows:
                 by_levels.setdefault(str(row_levels(net, row)), []).append(row)
             for group in by_levels.values():
-                kin = alike(net, group[0])
+                kin = counted_alike(net, group[0])
                 for row in group:
                     self.assertIn(tuple(row), kin, (group[0], row))
                 strangers = [row for row in rows if len(row) == len(group[0]) and row not in group]
@@ -182,69 +155,12 @@ class Alike(unittest.TestCase):
             for row in rows_to_play(net, 4)[:60]:
                 web = woven(net, row)
                 free = [at for at in range(len(row) - 1) if at not in counted_causes(web, at + 1)]
-                self.assertEqual(len(free), len(exchanged(net, row)))
+                self.assertEqual(len(free), len(counted_exchanges(net, row)))
 
 
-class Refused(unittest.TestCase):
-    def refused(self, net, row, refusal):
-        for ask in (woven, row_levels):
-            with self.subTest((ask.__name__, row)):
-                kept = list(row)
-                self.assertEqual(outcome_of(lambda: ask(net, row)), refusal)
-                self.assertEqual(row, kept)
-
-    def test_no_move_and_held(self):
-        net = net_of(FORK)
-        self.refused(net, ["nowhere"], ("NoMove", 0))
-        self.refused(net, ["a"], ("NoMove", 0))
-        self.refused(net, [""], ("NoMove", 0))
-        self.refused(net, ["left", "mid", "JOIN"], ("NoMove", 2))
-        self.refused(net, ["join"], ("Held", 0))
-        self.refused(net, ["left", "lean"], ("Held", 1))
-        self.refused(net, ["left", "mid", "join", "mid"], ("Held", 3))
-        self.refused(Net([], []), ["go"], ("NoMove", 0))
-
-    def test_the_first_refusal_is_the_row_s(self):
-        net = net_of(FORK)
-        self.refused(net, ["left", "lean", "nowhere"], ("Held", 1))
-        self.refused(net, ["left", "nowhere", "lean"], ("NoMove", 1))
-
-    def test_all_rows_as_counted(self):
-        kinds = set()
-        for net in [net_of(ROUND), net_of(MIDDLE), net_of(FORK)] + free_nets("ab", 2, 29):
-            for size in range(4):
-                for row in product(net.moves() + ["no"], repeat=size):
-                    outcome = counted_row(*parts_of(net), list(row))
-                    if isinstance(outcome, tuple):
-                        self.refused(net, list(row), outcome)
-                        kinds.add(outcome[0])
-                    else:
-                        woven(net, list(row))
-        self.assertEqual(kinds, {"NoMove", "Held"})
-
-    def test_a_net_that_crowds(self):
-        for text, row in (("a b; go: a > b", ["go"]), ("a c; go: a > b; on: b > c", ["go", "on"])):
-            for ask in (woven, row_levels):
-                with self.assertRaises(Crowded) as caught:
-                    ask(net_of(text), [])
-                self.assertEqual(caught.exception.row, row)
-
-    def test_crowded_goes_ahead_of_the_others(self):
-        net = net_of("a b c; go: a > b; on: c > d; held: d > e")
-        for row in ([], ["on"], ["nowhere"], ["held"], ["on", "nowhere"], ["go"], ["on", "go"]):
-            for ask in (woven, row_levels):
-                self.assertEqual(refusal_of(lambda: ask(net, row)), ("Crowded", {"row": ["go"]}))
-
-    def test_all_small_nets_that_crowd(self):
-        for made, start in small_nets("abc", 2, 997):
-            size = counted_crowding(made, start, "abc")
-            for ask in (woven, row_levels):
-                refusal = refusal_of(lambda: ask(Net(made, start), ["no"]))
-                if size is None:
-                    self.assertEqual(refusal, ("NoMove", {"at": 0}))
-                else:
-                    self.assertEqual((refusal[0], len(refusal[1]["row"])), ("Crowded", size))
-                    self.assertEqual(counted_row(made, start, refusal[1]["row"]), ("Full", size - 1))
+class Refused(RowsRefused, unittest.TestCase):
+    def asks(self, net, row):
+        return [lambda: woven(net, row), lambda: row_levels(net, row)]
 
 
 class KeptApart(unittest.TestCase):

@@ -1,7 +1,7 @@
-"""The grown web: all that may come, in the order of own troops, as far as the stops."""
+"""The grown web: all that may come, in the order of own troops, as far as the stops; and each state's least troop."""
 
 from unfoldnet.bits import bit, members
-from unfoldnet.cuts import state_of
+from unfoldnet.cuts import going_on, state_of
 from unfoldnet.errors import NoOccurrence
 from unfoldnet.ranks import level_names, rank
 from unfoldnet.relations import comings, fitting_spots
@@ -57,12 +57,36 @@ def grow(web):
     return partners
 
 
+def longer_by_one(web, partners, troop):
+    """The troops without stops to which a troop without stops, a tuple, comes by one more occurrence."""
+    more = [one for one in going_on(web, troop) if one not in partners]
+    return [tuple(sorted(troop + (one,))) for one in more]
+
+
+def least_troops(web, partners):
+    """The dict of all states that the net can come to, with the least troop of each, a tuple; the lesser come first."""
+    least = {}
+    troops = [()]
+    # The least troop of a state has no stop and is, but for one occurrence, the least troop of another state: so
+    # nothing need be looked for behind the other troops. Behind these, what leads on may be a stop.
+    while troops:
+        longer = []
+        for troop in sorted(troops, key=lambda some: rank(level_names(web, some))):
+            state = state_of(web, troop)
+            if state not in least:
+                least[state] = troop
+                longer.extend(longer_by_one(web, partners, troop))
+        troops = sorted(set(longer))
+    return least
+
+
 class Grown(Web):
-    """The grown web of a net."""
+    """The grown web of a net; it keeps, as nothing of it changes, the least troop of each state."""
 
     def __init__(self, net):
         Web.__init__(self, net)
         self.partner_by_stop = grow(self)
+        self.troop_by_state = least_troops(self, self.partner_by_stop)
 
     def stops(self):
         """The rising list of the stops."""
