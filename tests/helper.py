@@ -1,5 +1,6 @@
 """Second ways to hold the program against: play by counting beads, webs by takers and givers; and many small nets."""
 
+import copy
 from functools import cache
 from itertools import combinations, islice, product, zip_longest
 
@@ -587,3 +588,34 @@ class RowsRefused:
                 else:
                     self.assertEqual((refusal[0], len(refusal[1]["row"])), ("Crowded", size))
                     self.assertEqual(counted_row(made, start, refusal[1]["row"]), ("Full", size - 1))
+
+
+def spoilt(value):
+    """Changes all lists that are told, and those within them."""
+    if isinstance(value, (list, tuple)):
+        for part in value:
+            spoilt(part)
+    if isinstance(value, list):
+        value.reverse()
+        value.append("spoilt")
+        value[0] = "spoilt"
+
+
+class GrownAskedAgain:
+    """Tests of what is told of grown webs; `answers(grown)` tells it all, `texts` are those of some nets."""
+
+    def test_told_lists_changed_between(self):
+        for text in BARE_NETS + RICH_NETS + LARGE_NETS + TWO_WAYS_NETS + (MIDDLE, ROUND):
+            grown = Grown(net_of(text))
+            before = copy.deepcopy((self.answers(grown), told_by(grown), grown.stops(), parts_of(grown.net())))
+            for turn in range(2):
+                spoilt(self.answers(grown))
+                self.assertEqual((self.answers(grown), told_by(grown), grown.stops(), parts_of(grown.net())), before)
+
+    def test_grown_webs_by_turns_and_nets_in_other_orders(self):
+        nets = [net_of(text) for text in self.texts] + ring_nets(40)
+        grown = [Grown(net) for net in nets]
+        before = [copy.deepcopy(self.answers(one)) for one in grown]
+        for net, one, told in reversed(list(zip(nets, grown, before))):
+            for other in [one] + [Grown(like) for like in turned(net)]:
+                self.assertEqual(self.answers(other), told, parts_of(net))

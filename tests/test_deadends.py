@@ -1,8 +1,7 @@
-import copy
 import unittest
 
-from helper import (BARE_NETS, LARGE_NETS, MIDDLE, RICH_NETS, ROUND, TWO_WAYS_NETS, counted_reach, counted_steps,
-                    last_state, net_of, nets_of_many_sorts, parts_of, ring_nets, told_by, turned)
+from helper import (TWO_WAYS_NETS, GrownAskedAgain, counted_reach, counted_steps, last_state, net_of,
+                    nets_of_many_sorts, parts_of, ring_nets)
 
 from unfoldnet.deadends import dead_end, never
 from unfoldnet.grown import Grown
@@ -91,26 +90,11 @@ class Never(unittest.TestCase):
         self.assertEqual(never(grown), ["never"])
 
 
-class KeptApart(unittest.TestCase):
-    def test_told_lists_changed_between(self):
-        for text in BARE_NETS + RICH_NETS + LARGE_NETS + TWO_WAYS_NETS + (MIDDLE, ROUND):
-            grown = Grown(net_of(text))
-            before = copy.deepcopy((dead_end(grown), never(grown), told_by(grown), grown.stops()))
-            for turn in range(2):
-                never(grown).append("z")
-                for told in (dead_end(grown), never(grown)):
-                    if told is not None:
-                        told.append("y")
-                        told[0] = "x"
-                self.assertEqual((dead_end(grown), never(grown), told_by(grown), grown.stops()), before)
+class KeptApart(GrownAskedAgain, unittest.TestCase):
+    texts = [told[0] for told in TOLD]
 
-    def test_grown_webs_by_turns_and_nets_in_other_orders(self):
-        nets = [net_of(text) for text, fewest, moves in TOLD] + ring_nets(60)
-        grown = [Grown(net) for net in nets]
-        before = [copy.deepcopy((dead_end(one), never(one))) for one in grown]
-        for net, one, told in reversed(list(zip(nets, grown, before))):
-            for other in [one] + [Grown(like) for like in turned(net)]:
-                self.assertEqual((dead_end(other), never(other)), told, parts_of(net))
+    def answers(self, grown):
+        return dead_end(grown), never(grown)
 
 
 if __name__ == "__main__":

@@ -1,9 +1,7 @@
-import copy
 import unittest
 
-from helper import (BARE_NETS, FORK, LARGE_NETS, MIDDLE, RICH_NETS, ROUND, TWO_WAYS_NETS, counted_reach, counted_row,
-                    counted_steps, last_state, net_of, nets_of_many_sorts, parts_of, refusal_of, ring_nets, told_by,
-                    turned)
+from helper import (BARE_NETS, FORK, ROUND, GrownAskedAgain, counted_reach, counted_row, counted_steps, last_state,
+                    net_of, nets_of_many_sorts, parts_of, refusal_of, ring_nets)
 
 from unfoldnet.grown import Grown
 from unfoldnet.nets import Net
@@ -155,30 +153,11 @@ class Lost(unittest.TestCase):
         self.assertEqual(lost(Grown(net_of("a; go: a > b; on: b > c; home: b > a; stay: c > c"))), ["go", "on"])
 
 
-def answers(grown):
-    """All that the two functions tell of a grown web."""
-    return [round_of(grown, move) for move in grown.net().moves()], lost(grown)
+class KeptApart(GrownAskedAgain, unittest.TestCase):
+    texts = [told[0] for told in TOLD]
 
-
-class KeptApart(unittest.TestCase):
-    def test_told_lists_changed_between(self):
-        for text in BARE_NETS + RICH_NETS + LARGE_NETS + TWO_WAYS_NETS + (MIDDLE, ROUND):
-            grown = Grown(net_of(text))
-            before = copy.deepcopy((answers(grown), told_by(grown), grown.stops()))
-            for turn in range(2):
-                rounds, away = answers(grown)
-                for row in [part for told in rounds if told for part in told] + ([away] if away else []):
-                    row.append("z")
-                    row[0] = "y"
-                self.assertEqual((answers(grown), told_by(grown), grown.stops()), before)
-
-    def test_grown_webs_by_turns_and_nets_in_other_orders(self):
-        nets = [net_of(text) for text, moves, fewest in TOLD] + ring_nets(60)
-        grown = [Grown(net) for net in nets]
-        before = [copy.deepcopy(answers(one)) for one in grown]
-        for net, one, told in reversed(list(zip(nets, grown, before))):
-            for other in [one] + [Grown(like) for like in turned(net)]:
-                self.assertEqual(answers(other), told, parts_of(net))
+    def answers(self, grown):
+        return [round_of(grown, move) for move in grown.net().moves()], lost(grown)
 
 
 if __name__ == "__main__":

@@ -81,15 +81,23 @@ def row_by_ways(ways, state):
     return list(reversed(row))
 
 
-def crowding(net):
-    """A row with as few moves as any whose last move alone is refused, with Full; or None."""
+def shortest_row(net, last_in):
+    """A row with as few moves as any whose last move is the one that `last_in` tells of the state ahead of it; or None.
+
+    The moves ahead of the last one can be played; of each state `last_in` tells a move or None.
+    """
     ways = {net.start(): None}
     states = [net.start()]
     # All states of one distance go ahead of those farther off, so the first row found is a shortest one.
     while states:
         for state in states:
-            move = crowder(net, state)
+            move = last_in(state)
             if move is not None:
                 return row_by_ways(ways, state) + [move]
         states = newly_reached(net, states, ways)
     return None
+
+
+def crowding(net):
+    """A row with as few moves as any whose last move alone is refused, with Full; or None."""
+    return shortest_row(net, lambda state: crowder(net, state))
